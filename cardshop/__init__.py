@@ -1,0 +1,1 @@
+"""Cardshop: a shop of card machines, and plans with the fewest goings."""
