@@ -40,3 +40,8 @@ def card_of(text):
 def mark_of(card):
     """The last four columns of a card."""
     return card[BODY_WIDTH:]
+
+
+def sign_at(card, column):
+    """The sign of a card in a column, these counted from 1 on."""
+    return card[column - 1]

@@ -118,6 +118,42 @@ class Language(unittest.TestCase):
         for node, at in self.each_node(ast.arg):
             self.assertFalse(node.arg.startswith("_") or hasattr(builtins, node.arg), at)
 
+    def test_locals_are_not_called_like_imports_or_classes(self):
+        for path in files():
+            nodes = nodes_of(path)
+            taken = {node.name for node in nodes if isinstance(node, ast.ClassDef)}
+            for node in nodes:
+                if isinstance(node, ast.ImportFrom):
+                    taken.update([name.name for name in node.names])
+            for node in nodes:
+                if isinstance(node, ast.arg):
+                    self.assertNotIn(node.arg, taken, f"{path.name}:{node.lineno}")
+                if isinstance(node, ast.Name) and isinstance(node.ctx, ast.Store):
+                    self.assertNotIn(node.id, taken, f"{path.name}:{node.lineno}")
+
+    def test_no_name_is_a_method_and_a_value(self):
+        methods = own_methods()
+        for node, at in self.each_node(ast.Attribute):
+            if isinstance(node.ctx, ast.Store):
+                self.assertNotIn(node.attr, methods, at)
+                for value in ["", 0, [], {}, (), set(), b""]:
+                    self.assertFalse(hasattr(value, node.attr), at)
+
+    def test_no_two_files_draw_from_one_another(self):
+        drawn = {}
+        for path in files():
+            drawn[path.stem] = [node.module.split(".")[1] for node in nodes_of(path)
+                                if isinstance(node, ast.ImportFrom)]
+        while drawn:
+            free = [name for name in drawn if not [other for other in drawn[name] if other in drawn]]
+            self.assertNotEqual(free, [], drawn)
+            for name in free:
+                drawn.pop(name)
+
+    def test_assignments_have_plain_targets(self):
+        for node, at in self.each_node(ast.Assign):
+            self.assertNotIsInstance(node.targets[0], (ast.Tuple, ast.List), at)
+
     def test_methods(self):
         allowed = METHODS | own_methods()
         for node, at in self.each_node(ast.Call):
