@@ -45,3 +45,13 @@ def mark_of(card):
 def sign_at(card, column):
     """The sign of a card in a column, these counted from 1 on."""
     return card[column - 1]
+
+
+def shown_blanks(text):
+    """A text of signs as it stands in rows, its blanks as `_`."""
+    return text.replace(" ", "_")
+
+
+def read_blanks(word):
+    """The text that a word of a row writes."""
+    return word.replace("_", " ")
