@@ -94,6 +94,11 @@ class Refusals(unittest.TestCase):
                          ("people", (5, 7), (1, 3), 4, 5)]:
                 self.bad(middle=(word,) + rest)
 
+    def test_a_middle_with_more_or_fewer_things_than_its_word_wants(self):
+        for middle in [(), ("mates",), ("without", "people", (5, 7)), ("mates", "people", (5, 7), (1, 3), (1, 3)),
+                       ("first",), ("first", (5, 7), (1, 3))]:
+            self.bad(middle=middle)
+
     def test_fields(self):
         for pair in [(0, 1), (0, 0), (36, 37), (37, 37), (2, 1), (-1, 2), (1, 10 ** 60), (10 ** 60, 10 ** 60), (1, 41)]:
             self.bad(picks=[(pair, "AA")])

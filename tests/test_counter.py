@@ -127,6 +127,10 @@ class Overs(unittest.TestCase):
         self.assertEqual(counter.overs(), [])
         self.assertEqual(self.fed(counter, ["A45", "A54"]), [[], [], []])
 
+    def test_the_outermost_level_raises_no_other(self):
+        for breaks in [[], [(1, 1)], [(1, 1), (3, 3)]]:
+            self.assertEqual(self.fed(Counter(breaks, [(2, 2)], 1, []), ["A6"]), [[], []])
+
     def test_a_card_runs_a_wheel_over(self):
         counter = Counter([(1, 1)], [(2, 2), (3, 3)], 1, [])
         self.assertEqual(self.fed(counter, ["A 5", "A 5", "A5 ", "A5 "]), [[], [1], [1], [0, 1], [0, 1]])
